@@ -1,0 +1,280 @@
+package fs
+
+import (
+	"math/rand"
+	"testing"
+
+	"marl/api"
+	"marl/disk"
+	"marl/geom"
+	"marl/inode"
+	"marl/pack"
+)
+
+func encode(n api.Inode) ([]byte, api.Errno) { return inode.Encode(n) }
+func decode(b []byte) (api.Inode, api.Errno) { return inode.Decode(b) }
+
+// filled answers a file system whose clean segments have at least so many blocks together, but as few as may be.
+func filled(t *testing.T, r *rand.Rand, s geom.Super, blocks int) *FS {
+	t.Helper()
+	d, _ := disk.New(s.Blocks)
+	f, e := Mkfs(d, s)
+	if e != api.OK {
+		t.Fatal(e)
+	}
+	// Some files first, so that what is changed stands far from each other.
+	for range min(s.Inodes-2, 80) {
+		ino, e := f.Make(api.KFile)
+		if e != api.OK {
+			t.Fatalf("P18.1: Make: %d", e)
+		}
+		if e := f.Flush(); e != api.OK {
+			t.Fatalf("P18.1: Flush: %d", e)
+		}
+		f.Write(ino, 64*r.Intn(600), []byte{1})
+		if f.Flush(); r.Intn(9) == 0 {
+			f.Checkpoint()
+		}
+	}
+	for ino := 3; f.Clean()*s.SegBlocks >= blocks; ino = 3 + (ino-2)%(s.Inodes-2) {
+		if f.Write(ino, 64*r.Intn(500), make([]byte, 64*r.Intn(40))) != api.OK || f.Flush() != api.OK {
+			break
+		}
+		if (f.Clean()-1)*s.SegBlocks < blocks {
+			break
+		}
+	}
+	if e := f.Flush(); e != api.OK {
+		t.Fatalf("P18.1: Flush: %d", e)
+	}
+	return f
+}
+
+// P18.1: what has room at least.
+func TestRoom(t *testing.T) {
+	t.Parallel()
+	for seed := range 40 {
+		r := rand.New(rand.NewSource(int64(seed)))
+		s := geom.Super{Blocks: 4096, SegBlocks: 8 + r.Intn(57), Inodes: []int{10, 50, 200}[r.Intn(3)]}
+		if seed < 4 {
+			s.SegBlocks = 8 + seed%2*56
+		}
+		small := filled(t, r, s, 400)
+		if small.Clean()*s.SegBlocks >= 400 {
+			for range 8 {
+				ino := 3 + r.Intn(2)
+				if e := small.Write(ino, 64*r.Intn(600), []byte{2}); e != api.OK {
+					t.Fatalf("P18.1: %v: %d clean: %d", s, small.Clean(), e)
+				}
+			}
+			lasts(t, small)
+		}
+		one := filled(t, r, s, 600)
+		if one.Clean()*s.SegBlocks >= 600 {
+			if e := one.Write(3, 38400-4097-r.Intn(20000), make([]byte, 4096)); e != api.OK {
+				t.Fatalf("P18.1: %v: %d clean: %d", s, one.Clean(), e)
+			}
+			lasts(t, one)
+		}
+		many := filled(t, r, s, 1600)
+		if many.Clean()*s.SegBlocks >= 1600 {
+			if e := many.Admit(8, 2); e != api.OK {
+				t.Fatalf("P18.1: Admit: %d", e)
+			}
+			inodes := min(40, s.Inodes-3)
+			for k := range 80 {
+				if e := many.Write(3+k%inodes, 64*r.Intn(600), []byte{2}); e != api.OK {
+					t.Fatalf("P18.1: %v: %d clean: block %d: %d", s, many.Clean(), k, e)
+				}
+			}
+			lasts(t, many)
+		}
+	}
+}
+
+// lasts tells that what was changed comes to the disk, and is opened.
+func lasts(t *testing.T, f *FS) {
+	t.Helper()
+	m := seen(t, f)
+	if e := f.Flush(); e != api.OK {
+		t.Fatalf("P18.1: Flush: %d", e)
+	}
+	g := opened(t, f.Disk().Crash(nil, -1, 0))
+	same(t, g, m)
+	if e := f.Checkpoint(); e != api.OK {
+		t.Fatalf("P18.1: Checkpoint: %d", e)
+	}
+	same(t, f, m)
+	sound(t, f)
+}
+
+// P18.1: what is admitted has room; a call that is refused changes nothing; and what a flush, a checkpoint and an opening need, they have.
+func TestAdmit(t *testing.T) {
+	t.Parallel()
+	refused := 0
+	for seed := range 120 {
+		r := rand.New(rand.NewSource(int64(seed)))
+		s := someGeometry(r)
+		f, m := made(t, s.Blocks, s.SegBlocks, s.Inodes), newModel(s.Inodes)
+		for range 60 {
+			for range r.Intn(5) {
+				change(t, r, f, m)
+			}
+			steps := f.Disk().Steps()
+			blocks, inodes := r.Intn(81), 1+r.Intn(8)
+			if r.Intn(2) == 0 {
+				blocks = r.Intn(9)
+			}
+			switch e := f.Admit(blocks, inodes); e {
+			case api.OK:
+				admitted(t, r, f, m, blocks, inodes)
+			case api.ErrFull:
+				refused++
+				same(t, f, m)
+			default:
+				t.Fatalf("P18.1: Admit: %d", e)
+			}
+			if f.Disk().Steps() != steps {
+				t.Fatal("P18.1: something was flushed")
+			}
+			if e := written(r, f); e != api.OK {
+				t.Fatalf("P18.1: %v: %d", s, e)
+			}
+			if r.Intn(10) == 0 {
+				f = opened(t, f.Disk().Crash(nil, -1, 0))
+				for i := range 1 + s.Inodes {
+					_, v, busy := f.imap.Get(i)
+					if !busy {
+						m.next[i] = v
+					}
+				}
+			}
+		}
+		same(t, f, m)
+		sound(t, f)
+	}
+	if refused == 0 {
+		t.Error("nothing was refused")
+	}
+}
+
+// admitted does what comes to so many blocks and inodes.
+func admitted(t *testing.T, r *rand.Rand, f *FS, m *model, blocks, inodes int) {
+	t.Helper()
+	if blocks > 8 {
+		n := max(1, min(blocks-1, 64))
+		ino := 2 + r.Intn(m.n-1)
+		x, ok := m.things[ino]
+		at := r.Intn(38400 - 64*n)
+		if !ok {
+			return
+		}
+		data := make([]byte, 64*n)
+		r.Read(data)
+		if e := f.Write(ino, at, data); e != api.OK {
+			t.Fatalf("P18.1: what was admitted is refused: %d", e)
+		}
+		b := make([]byte, max(len(x.data), at+len(data)))
+		copy(b, x.data)
+		copy(b[at:], data)
+		x.data = b
+		m.things[ino] = x
+		return
+	}
+	for inodes > 0 {
+		inodes--
+		ino := 2 + r.Intn(m.n-1)
+		x, ok := m.things[ino]
+		switch k := r.Intn(4); {
+		case k == 0 && m.least() != 0:
+			ino = m.least()
+			i, e := f.Make(api.KFile)
+			if e != api.OK || i != ino {
+				t.Fatalf("P18.1: what was admitted is refused: Make: %d", e)
+			}
+			x = thing{version: m.next[ino], kind: api.KFile, links: 1}
+		case k == 1 && ok && ino != 2:
+			if e := f.Remove(ino); e != api.OK {
+				t.Fatalf("P18.1: what was admitted is refused: Remove: %d", e)
+			}
+			m.next[ino] = x.version + 1
+			delete(m.things, ino)
+			continue
+		case k == 2 && ok && blocks > 0:
+			blocks--
+			size := r.Intn(len(x.data)*2 + 10)
+			size = min(size, 38400)
+			if e := f.Truncate(ino, size); e != api.OK {
+				t.Fatalf("P18.1: what was admitted is refused: Truncate: %d", e)
+			}
+			b := make([]byte, size)
+			copy(b, x.data)
+			x.data = b
+		case k == 3 && ok && blocks > 0:
+			blocks--
+			at := r.Intn(38399)
+			if e := f.Write(ino, at, []byte{9}); e != api.OK {
+				t.Fatalf("P18.1: what was admitted is refused: Write: %d", e)
+			}
+			b := make([]byte, max(len(x.data), at+1))
+			copy(b, x.data)
+			b[at] = 9
+			x.data = b
+		default:
+			continue
+		}
+		m.things[ino] = x
+	}
+}
+
+// P18.1: no items take more pieces, or more segments, than is held.
+func TestWorst(t *testing.T) {
+	t.Parallel()
+	r := rand.New(rand.NewSource(5))
+	for size := 8; size <= 64; size++ {
+		f := &FS{super: geom.Super{Blocks: 4096, SegBlocks: size, Inodes: 9}}
+		for n := 1; f.oneBatch(n); n += 1 + r.Intn(9) {
+			files, inos := hard(r, n)
+			left := minLeft + r.Intn(size-minLeft+1)
+			pieces, e := pack.Plan(files, inos, left, size)
+			if e != api.OK {
+				t.Fatalf("P18.1: %d items in segments of %d, %d left: %d", n, size, left, e)
+			}
+			taken := 0
+			for _, p := range pieces {
+				if p.New {
+					taken++
+					left = size
+				}
+				left -= pack.Blocks(p)
+			}
+			if left < minLeft {
+				taken++
+			}
+			if taken > f.takes(n) {
+				t.Fatalf("P18.1: %d items take %d segments of %d, held %d", n, taken, size, f.takes(n))
+			}
+		}
+	}
+}
+
+// hard answers n items, most of them each of a file of its own.
+func hard(r *rand.Rand, n int) ([]api.Finfo, []int) {
+	var files []api.Finfo
+	var inos []int
+	long := r.Intn(3) * r.Intn(3)
+	for n > 0 {
+		if r.Intn(30) == 0 && long > 0 {
+			inos = append(inos, 1)
+			n--
+			continue
+		}
+		x := api.Finfo{Ino: 1}
+		for range min(n, 1+r.Intn(1+long*long*3)) {
+			x.Lbns = append(x.Lbns, 1)
+			n--
+		}
+		files = append(files, x)
+	}
+	return files, inos
+}
