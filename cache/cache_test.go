@@ -1,4 +1,4 @@
-package cache
+package cache_test
 
 import (
 	"bytes"
@@ -9,6 +9,7 @@ import (
 	"testing"
 
 	"marl/api"
+	. "marl/cache"
 )
 
 func full(x byte) []byte { return bytes.Repeat([]byte{x}, api.Block) }

@@ -1,4 +1,4 @@
-package cleaner
+package cleaner_test
 
 import (
 	"fmt"
@@ -8,6 +8,7 @@ import (
 	"testing"
 
 	"marl/api"
+	. "marl/cleaner"
 	"marl/disk"
 	"marl/fs"
 	"marl/geom"

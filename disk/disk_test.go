@@ -1,4 +1,4 @@
-package disk
+package disk_test
 
 import (
 	"bytes"
@@ -7,6 +7,7 @@ import (
 	"testing"
 
 	"marl/api"
+	. "marl/disk"
 )
 
 func full(x byte) []byte { return bytes.Repeat([]byte{x}, api.Block) }
@@ -113,10 +114,16 @@ func TestExampleOfTheChapter(t *testing.T) {
 	}
 }
 
+// told is a write that isn't sure yet.
+type told struct {
+	at   int
+	data []byte
+}
+
 // model is a disk told plainly: lists of writes, replayed.
 type model struct {
 	sure  map[int][]byte
-	queue []write
+	queue []told
 }
 
 func (m *model) crash(keep []bool, torn, sectors, i int) []byte {
@@ -148,7 +155,7 @@ func TestRandomCalls(t *testing.T) {
 					t.Fatalf("P2.1: Barrier: %d with %d left", e, left)
 				} else if e == api.OK {
 					for _, w := range m.queue {
-						m.sure[w.at] = bytes.Clone(w.data[:])
+						m.sure[w.at] = bytes.Clone(w.data)
 					}
 					m.queue = nil
 					steps, left = steps+1, left-1
@@ -186,7 +193,7 @@ func TestRandomCalls(t *testing.T) {
 				if e := d.Write(i, b); (e == api.OK) != (left != 0) {
 					t.Fatalf("P2.1: Write: %d with %d left", e, left)
 				} else if e == api.OK {
-					m.queue = append(m.queue, write{i, block(b)})
+					m.queue = append(m.queue, told{i, b})
 					steps, left = steps+1, left-1
 				}
 			}

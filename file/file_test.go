@@ -1,4 +1,4 @@
-package file
+package file_test
 
 import (
 	"bytes"
@@ -8,6 +8,7 @@ import (
 	"testing"
 
 	"marl/api"
+	. "marl/file"
 	"marl/index"
 	"marl/inode"
 )

@@ -1,4 +1,4 @@
-package fs
+package fs_test
 
 import (
 	"bytes"
@@ -9,6 +9,7 @@ import (
 
 	"marl/api"
 	"marl/disk"
+	. "marl/fs"
 	"marl/geom"
 	"marl/usage"
 )
@@ -24,14 +25,15 @@ type model struct {
 	n      int
 	things map[int]thing
 	next   map[int]int // the versions of those that aren't there
+	loose  bool        // these versions aren't known
 }
 
 func newModel(n int) *model {
-	return &model{n, map[int]thing{2: {kind: api.KDir, links: 1}}, map[int]int{}}
+	return &model{n: n, things: map[int]thing{2: {kind: api.KDir, links: 1}}, next: map[int]int{}}
 }
 
 func (m *model) copied() *model {
-	c := &model{m.n, maps.Clone(m.things), maps.Clone(m.next)}
+	c := &model{m.n, maps.Clone(m.things), maps.Clone(m.next), m.loose}
 	for i, x := range c.things {
 		x.data = bytes.Clone(x.data)
 		c.things[i] = x
@@ -57,7 +59,7 @@ func (m *model) equal(o *model) bool {
 // seen tells what a file system answers of its inodes.
 func seen(t *testing.T, f *FS) *model {
 	t.Helper()
-	m := &model{f.Super().Inodes, map[int]thing{}, map[int]int{}}
+	m := &model{n: f.Super().Inodes, things: map[int]thing{}, next: map[int]int{}}
 	for _, ino := range f.Inodes() {
 		s, e := f.Stat(ino)
 		if e != api.OK || s.Ino != ino {
@@ -180,6 +182,9 @@ func change(t *testing.T, r *rand.Rand, f *FS, m *model) bool {
 			want = api.ErrFiles
 		case got == api.OK:
 			ino, x = m.least(), thing{version: m.next[m.least()], kind: kind, links: 1}
+			if n, _ := f.Stat(i); m.loose {
+				x.version = max(x.version, n.Version)
+			}
 			if i != ino {
 				t.Fatalf("P18.1: Make: %d, want %d", i, ino)
 			}

@@ -1,4 +1,4 @@
-package fs
+package fs_test
 
 import (
 	"math/rand"
@@ -6,9 +6,9 @@ import (
 
 	"marl/api"
 	"marl/disk"
+	. "marl/fs"
 	"marl/geom"
 	"marl/inode"
-	"marl/pack"
 )
 
 func encode(n api.Inode) ([]byte, api.Errno) { return inode.Encode(n) }
@@ -142,12 +142,6 @@ func TestAdmit(t *testing.T) {
 			}
 			if r.Intn(10) == 0 {
 				f = opened(t, f.Disk().Crash(nil, -1, 0))
-				for i := range 1 + s.Inodes {
-					_, v, busy := f.imap.Get(i)
-					if !busy {
-						m.next[i] = v
-					}
-				}
 			}
 		}
 		same(t, f, m)
@@ -225,56 +219,4 @@ func admitted(t *testing.T, r *rand.Rand, f *FS, m *model, blocks, inodes int) {
 		}
 		m.things[ino] = x
 	}
-}
-
-// P18.1: no items take more pieces, or more segments, than is held.
-func TestWorst(t *testing.T) {
-	t.Parallel()
-	r := rand.New(rand.NewSource(5))
-	for size := 8; size <= 64; size++ {
-		f := &FS{super: geom.Super{Blocks: 4096, SegBlocks: size, Inodes: 9}}
-		for n := 1; f.oneBatch(n); n += 1 + r.Intn(9) {
-			files, inos := hard(r, n)
-			left := minLeft + r.Intn(size-minLeft+1)
-			pieces, e := pack.Plan(files, inos, left, size)
-			if e != api.OK {
-				t.Fatalf("P18.1: %d items in segments of %d, %d left: %d", n, size, left, e)
-			}
-			taken := 0
-			for _, p := range pieces {
-				if p.New {
-					taken++
-					left = size
-				}
-				left -= pack.Blocks(p)
-			}
-			if left < minLeft {
-				taken++
-			}
-			if taken > f.takes(n) {
-				t.Fatalf("P18.1: %d items take %d segments of %d, held %d", n, taken, size, f.takes(n))
-			}
-		}
-	}
-}
-
-// hard answers n items, most of them each of a file of its own.
-func hard(r *rand.Rand, n int) ([]api.Finfo, []int) {
-	var files []api.Finfo
-	var inos []int
-	long := r.Intn(3) * r.Intn(3)
-	for n > 0 {
-		if r.Intn(30) == 0 && long > 0 {
-			inos = append(inos, 1)
-			n--
-			continue
-		}
-		x := api.Finfo{Ino: 1}
-		for range min(n, 1+r.Intn(1+long*long*3)) {
-			x.Lbns = append(x.Lbns, 1)
-			n--
-		}
-		files = append(files, x)
-	}
-	return files, inos
 }

@@ -1,4 +1,4 @@
-package geom
+package geom_test
 
 import (
 	"bytes"
@@ -7,6 +7,7 @@ import (
 	"testing"
 
 	"marl/api"
+	. "marl/geom"
 	"marl/sum"
 )
 

@@ -1,4 +1,4 @@
-package imap
+package imap_test
 
 import (
 	"math"
@@ -8,6 +8,7 @@ import (
 
 	"marl/api"
 	"marl/entry"
+	. "marl/imap"
 )
 
 func made(t *testing.T, n int) *Map {

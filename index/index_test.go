@@ -1,4 +1,4 @@
-package index
+package index_test
 
 import (
 	"cmp"
@@ -7,6 +7,7 @@ import (
 	"testing"
 
 	"marl/api"
+	. "marl/index"
 )
 
 // walk is a file's pointers gone down plainly; every block comes to see once.

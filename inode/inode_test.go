@@ -1,4 +1,4 @@
-package inode
+package inode_test
 
 import (
 	"bytes"
@@ -7,6 +7,7 @@ import (
 	"testing"
 
 	"marl/api"
+	. "marl/inode"
 	"marl/sum"
 )
 

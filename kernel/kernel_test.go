@@ -1,4 +1,4 @@
-package kernel
+package kernel_test
 
 import (
 	"fmt"
@@ -11,6 +11,7 @@ import (
 	"marl/disk"
 	"marl/fs"
 	"marl/geom"
+	. "marl/kernel"
 	"marl/usage"
 )
 

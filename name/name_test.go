@@ -1,4 +1,4 @@
-package name
+package name_test
 
 import (
 	"math/rand"
@@ -8,6 +8,7 @@ import (
 
 	"marl/api"
 	"marl/entry"
+	. "marl/name"
 )
 
 // P8.1

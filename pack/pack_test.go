@@ -1,4 +1,4 @@
-package pack
+package pack_test
 
 import (
 	"math"
@@ -7,6 +7,7 @@ import (
 	"testing"
 
 	"marl/api"
+	. "marl/pack"
 	"marl/summary"
 )
 

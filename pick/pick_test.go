@@ -1,4 +1,4 @@
-package pick
+package pick_test
 
 import (
 	"math"
@@ -8,6 +8,7 @@ import (
 	"testing"
 
 	"marl/api"
+	. "marl/pick"
 )
 
 // benefit is the chapter's fraction.

@@ -1,4 +1,4 @@
-package point
+package point_test
 
 import (
 	"bytes"
@@ -9,6 +9,7 @@ import (
 
 	"marl/api"
 	"marl/disk"
+	. "marl/point"
 )
 
 func made(t *testing.T, n int) *disk.Disk {

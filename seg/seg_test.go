@@ -1,4 +1,4 @@
-package seg
+package seg_test
 
 import (
 	"bytes"
@@ -10,6 +10,7 @@ import (
 	"marl/api"
 	"marl/disk"
 	"marl/geom"
+	. "marl/seg"
 	"marl/sum"
 	"marl/summary"
 )

@@ -1,4 +1,4 @@
-package sum
+package sum_test
 
 import (
 	"bytes"
@@ -6,6 +6,7 @@ import (
 	"testing"
 
 	"marl/api"
+	. "marl/sum"
 )
 
 // slow is the chapter's rule, bit by bit.

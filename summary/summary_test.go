@@ -1,4 +1,4 @@
-package summary
+package summary_test
 
 import (
 	"bytes"
@@ -9,6 +9,7 @@ import (
 	"testing"
 
 	"marl/api"
+	. "marl/summary"
 )
 
 // somePart answers a summary by chance.

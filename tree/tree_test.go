@@ -1,4 +1,4 @@
-package tree
+package tree_test
 
 import (
 	"bytes"
@@ -11,6 +11,7 @@ import (
 
 	"marl/api"
 	"marl/name"
+	. "marl/tree"
 )
 
 func made(t *testing.T, n int) *Tree {

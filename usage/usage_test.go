@@ -1,4 +1,4 @@
-package usage
+package usage_test
 
 import (
 	"math"
@@ -7,6 +7,7 @@ import (
 	"testing"
 
 	"marl/api"
+	. "marl/usage"
 )
 
 func made(t *testing.T, segs, size int) *Table {

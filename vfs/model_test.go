@@ -1,4 +1,4 @@
-package vfs
+package vfs_test
 
 import (
 	"fmt"
@@ -12,6 +12,7 @@ import (
 	"marl/entry"
 	"marl/geom"
 	"marl/tree"
+	. "marl/vfs"
 )
 
 // calls are those that a tree and a file system by paths have alike.

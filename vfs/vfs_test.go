@@ -1,4 +1,4 @@
-package vfs
+package vfs_test
 
 import (
 	"fmt"
@@ -16,6 +16,7 @@ import (
 	"marl/geom"
 	"marl/kernel"
 	"marl/tree"
+	. "marl/vfs"
 )
 
 // P21.1

@@ -1,4 +1,4 @@
-package yard
+package yard_test
 
 import (
 	"bytes"
@@ -15,6 +15,7 @@ import (
 	"marl/tree"
 	"marl/usage"
 	"marl/vfs"
+	. "marl/yard"
 )
 
 func made(t *testing.T, s geom.Super) *Yard {
@@ -196,27 +197,31 @@ func TestArmAndCrash(t *testing.T) {
 	}
 }
 
+// numbered is what an act tells whose answer is a number.
+func numbered(n int, e api.Errno) string { return told(Answer{N: n}, e) }
+
 // ofTree does an act of a tree.
 func ofTree(x *tree.Tree, a Act) string {
 	switch a.Kind {
 	case Create:
-		return told(number(x.Create(a.Path)))
+		return numbered(x.Create(a.Path))
 	case Mkdir:
-		return told(number(x.Mkdir(a.Path)))
+		return numbered(x.Mkdir(a.Path))
 	case Link:
-		return told(only(x.Link(a.Old, a.Path)))
+		return told(Answer{}, x.Link(a.Old, a.Path))
 	case Unlink:
-		return told(only(x.Unlink(a.Path)))
+		return told(Answer{}, x.Unlink(a.Path))
 	case Rmdir:
-		return told(only(x.Rmdir(a.Path)))
+		return told(Answer{}, x.Rmdir(a.Path))
 	case Rename:
-		return told(only(x.Rename(a.Old, a.Path)))
+		return told(Answer{}, x.Rename(a.Old, a.Path))
 	case Write:
-		return told(only(x.Write(a.Path, a.At, a.Data)))
+		return told(Answer{}, x.Write(a.Path, a.At, a.Data))
 	case Truncate:
-		return told(only(x.Truncate(a.Path, a.At)))
+		return told(Answer{}, x.Truncate(a.Path, a.At))
 	}
-	return told(data(x.Read(a.Path, a.At, a.N)))
+	b, e := x.Read(a.Path, a.At, a.N)
+	return told(Answer{Data: b}, e)
 }
 
 func told(a Answer, e api.Errno) string { return fmt.Sprint(a.N, a.Data, len(a.Addrs), int(e)) }
