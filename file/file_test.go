@@ -352,6 +352,19 @@ func TestSameAddress(t *testing.T) {
 	}
 }
 
+// P16.1: what is told no more is told rising, wherever it stood.
+func TestGoneIsRising(t *testing.T) {
+	for _, addrs := range [][3]int{{60, 50, 40}, {50, 60, 40}, {40, 60, 50}} {
+		m := New()
+		m.Set(22, addrs[0])
+		m.Set(-22, addrs[1])
+		m.Set(-23, addrs[2])
+		if l, e := m.Set(22, 0); !slices.Equal(l, []int{40, 50, 60}) || e != api.OK {
+			t.Errorf("P16.1: %v, %d", l, e)
+		}
+	}
+}
+
 // R6
 func TestAnswersAreNew(t *testing.T) {
 	m := New()

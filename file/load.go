@@ -12,7 +12,6 @@ func Load(ptr [9]uint32, read func(addr int) ([]byte, bool)) (*Map, api.Errno) {
 	ask := once(read)
 	var down func(n int, ptr []uint32) bool
 	down = func(n int, ptr []uint32) bool {
-		leads := false
 		for slot, p := range ptr {
 			if p == 0 {
 				continue
@@ -21,20 +20,18 @@ func Load(ptr [9]uint32, read func(addr int) ([]byte, bool)) (*Map, api.Errno) {
 			if !ok || p >= api.MaxDisk {
 				return false
 			}
-			leads = true
 			if level, _ := index.Level(c); level > 0 {
 				below, ok := ask(int(p))
 				if !ok || !down(c, below[:]) {
 					return false
 				}
 			}
-			// Behind what is below it, since a block of pointers comes by its data.
+			// Behind what is below it: a block of pointers comes by its data, so one that leads to nothing isn't there.
 			if _, e := m.Set(c, int(p)); e != api.OK {
 				return false
 			}
 		}
-		// An inode may lead to nothing.
-		return leads || n == api.MaxFile
+		return true
 	}
 	if !down(api.MaxFile, ptr[:]) {
 		return nil, api.ErrForm
@@ -61,13 +58,10 @@ func once(read func(addr int) ([]byte, bool)) func(addr int) ([api.Per]uint32, b
 	}
 }
 
-// pointers reads those at an address. A read that panics has said no.
+// pointers reads those at an address.
 func pointers(read func(addr int) ([]byte, bool), addr int) (a answer) {
-	defer func() {
-		if recover() != nil {
-			a = answer{}
-		}
-	}()
+	// A read that panics has said no, by the answer that stands till then.
+	defer func() { _ = recover() }()
 	b, ok := read(addr)
 	if !ok {
 		return answer{}

@@ -53,6 +53,12 @@ func TestRanges(t *testing.T) {
 	if l, e := Plan(nil, make([]int, 385), 0, 8); l != nil || e != api.ErrBig {
 		t.Errorf("P13.1: %d pieces, %d", len(l), e)
 	}
+	if l, e := Plan([]api.Finfo{{Lbns: make([]int, 384)}}, nil, 0, 8); len(l) != 64 || e != api.OK {
+		t.Errorf("P13.1: %d pieces, %d", len(l), e)
+	}
+	if l, e := Plan([]api.Finfo{{Lbns: make([]int, 385)}}, nil, 0, 8); l != nil || e != api.ErrBig {
+		t.Errorf("P13.1: %d pieces, %d", len(l), e)
+	}
 	if l, e := Plan([]api.Finfo{{Lbns: make([]int, 100000)}}, []int{1}, 0, 8); l != nil || e != api.ErrBig {
 		t.Errorf("P13.1: %d pieces, %d", len(l), e)
 	}

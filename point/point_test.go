@@ -186,6 +186,9 @@ func TestSmallDisksAndWipe(t *testing.T) {
 			t.Errorf("P17.1: a disk of %d blocks: %v, %v", n, p, ok)
 		}
 	}
+	if e := Wipe(made(t, 3)); e != api.OK {
+		t.Errorf("P17.1: Wipe of three blocks: %d", e)
+	}
 	d := made(t, 4)
 	Save(d, Point{1, 0, 1, 1})
 	Save(d, Point{1, 1, 1, 1})

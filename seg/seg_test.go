@@ -142,6 +142,9 @@ func TestClear(t *testing.T) {
 			t.Errorf("P15.1: Clear with %d steps: %d", k, e)
 		}
 	}
+	if e := Clear(made(t, 2), 0); e != api.OK {
+		t.Errorf("P15.1: on a disk of two blocks: %d", e)
+	}
 	if e := Clear(made(t, 1), 0); e != api.ErrRange {
 		t.Errorf("P15.1: on a disk of one block: %d", e)
 	}
@@ -159,8 +162,8 @@ func TestReads(t *testing.T) {
 	}
 	// The same summary, whose blocks the disk hasn't.
 	for i := range 2 {
-		x, _ := d.Read(16 + i)
-		d.Write(17+i, x)
+		x, _ := d.Read(17 - i)
+		d.Write(18-i, x)
 	}
 	if f, e := Read(d, 17); e != api.ErrForm || !none(f) {
 		t.Errorf("P15.1: beyond the disk: %v, %d", f, e)
@@ -310,9 +313,18 @@ func TestNoBatches(t *testing.T) {
 			t.Errorf("P15.3: %d: %d batches, %d, %d", i, len(l), next, count)
 		}
 	}
+	// One that would end a batch of fewer than the first tells.
+	fewer := made(t, 64)
+	p, b := part(1, 0, 0, 3, 20, 1)
+	Write(fewer, 3, p, b)
+	p, b = part(1, 1, 1, 2, 50, 1)
+	Write(fewer, 20, p, b)
+	if l, next, count := Scan(fewer, s, 3, 1, 0); len(l) != 0 || next != 3 || count != 0 {
+		t.Errorf("P15.3: %d batches, %d, %d", len(l), next, count)
+	}
 	// The last Count that there is.
 	d := made(t, 64)
-	p, b := part(1, 65535, 0, 1, 3, 1)
+	p, b = part(1, 65535, 0, 1, 3, 1)
 	p.Next = 30
 	Write(d, 3, p, b)
 	if l, next, count := Scan(d, s, 3, 1, 65535); len(l) != 1 || next != 30 || count != 65536 {

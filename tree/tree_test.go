@@ -154,6 +154,7 @@ func TestErrorsInTheirOrder(t *testing.T) {
 		{"Truncate: a directory", func(x *Tree) string { return only(x.Truncate("/d/", -1)) }, "21"},
 		{"Truncate: below 0", func(x *Tree) string { return only(x.Truncate("/g", -1)) }, "22"},
 		{"Truncate: too great", func(x *Tree) string { return only(x.Truncate("/g", 38401)) }, "27"},
+		{"Truncate: the greatest", func(x *Tree) string { return only(x.Truncate("/g", 38400)) }, "0"},
 		{"Truncate: as a directory", func(x *Tree) string { return only(x.Truncate("/g/", -1)) }, "20"},
 	} {
 		x := furnished(t)
