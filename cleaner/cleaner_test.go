@@ -134,33 +134,40 @@ func TestClean(t *testing.T) {
 			t.Errorf("P20.1: Clean(%d): %d, %d", s, n, e)
 		}
 	}
-	cleaned := 0
+	var used []int
+	steps := f.Disk().Steps()
 	for s := range f.Super().Segs() {
-		i, _ := f.Segment(s)
-		n, e := Clean(f, s)
-		switch i.State {
+		switch i, _ := f.Segment(s); i.State {
+		case usage.Used:
+			used = append(used, s)
 		case usage.Clean:
-			if n != 0 || e != api.ErrStale {
+			if n, e := Clean(f, s); n != 0 || e != api.ErrStale {
 				t.Errorf("P20.1: a clean one: %d, %d", n, e)
 			}
 		case usage.Active:
-			if n != 0 || e != api.ErrBusy {
+			if n, e := Clean(f, s); n != 0 || e != api.ErrBusy {
 				t.Errorf("P20.1: the active one: %d, %d", n, e)
 			}
-		default:
-			cleaned++
-			if n != i.Live || e != api.OK {
-				t.Errorf("P20.1: %v: %d, %d", i, n, e)
-			}
-			if i, _ := f.Segment(s); i.State != usage.Clean {
-				t.Errorf("P20.3: %v", i)
-			}
+		}
+	}
+	// What is refused marks nothing.
+	f.Flush()
+	if f.Disk().Steps() != steps {
+		t.Error("P20.1: what is refused changes something")
+	}
+	for _, s := range used {
+		i, _ := f.Segment(s)
+		if n, e := Clean(f, s); n != i.Live || e != api.OK {
+			t.Errorf("P20.1: %v: %d, %d", i, n, e)
+		}
+		if i, _ := f.Segment(s); i.State != usage.Clean {
+			t.Errorf("P20.3: %v", i)
 		}
 		if seen(f) != was {
 			t.Fatal("P20.2: something is changed")
 		}
 	}
-	if cleaned == 0 {
+	if len(used) == 0 {
 		t.Error("no segment was Used")
 	}
 }
