@@ -111,6 +111,9 @@ func (f *FS) Admit(blocks, inodes int) api.Errno {
 	if blocks < 0 || blocks > maxAdmit || inodes < 0 || inodes > maxAdmit {
 		return api.ErrRange
 	}
+	if blocks == 0 && inodes == 0 {
+		return api.OK
+	}
 	items := perBlock * min(blocks, scattered)
 	if blocks > 0 {
 		items = max(items, oneWrite(blocks))

@@ -108,6 +108,30 @@ func lasts(t *testing.T, f *FS) {
 	sound(t, f)
 }
 
+// P18.1: nothing has room always, and so has what a full file system has changed.
+func TestFullFileSystem(t *testing.T) {
+	for _, size := range []int{8, 16, 40} {
+		f := made(t, 64+size*6, size, 20)
+		f.Make(api.KFile)
+		for at := 0; f.Write(3, at, make([]byte, 64)) == api.OK; at += 64 {
+			if e := f.Checkpoint(); e != api.OK {
+				t.Fatalf("P18.1: Checkpoint: %d", e)
+			}
+		}
+		m := seen(t, f)
+		if f.Admit(0, 0) != api.OK || f.Admit(80, 80) != api.ErrFull || f.Write(3, 0, nil) != api.OK {
+			t.Errorf("P18.1: a full one: Admit %d, %d", f.Admit(0, 0), f.Admit(80, 80))
+		}
+		if ino, e := f.Make(api.KFile); e == api.ErrFull && ino != 0 {
+			t.Errorf("P18.1: %d beside an error", ino)
+		} else if e == api.OK {
+			f.Remove(ino)
+		}
+		same(t, f, m)
+		lasts(t, f)
+	}
+}
+
 // P18.1: what is admitted has room; a call that is refused changes nothing; and what a flush, a checkpoint and an opening need, they have.
 func TestAdmit(t *testing.T) {
 	t.Parallel()
