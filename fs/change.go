@@ -179,12 +179,8 @@ func (f *FS) Rewrite(ino, lbn int) api.Errno {
 		return api.ErrFull
 	}
 	f.touch(n)
-	if lbn == ownBlock {
-		return api.OK
+	for _, x := range lbns {
+		n.mark(x)
 	}
-	if lbn >= 0 && ino != api.Ifile {
-		f.store(n, lbn, f.load(n, lbn))
-	}
-	f.mark(n, lbn)
 	return api.OK
 }

@@ -28,7 +28,8 @@ func (f *FS) load(n *node, lbn int) []byte {
 // store lets a data block have these bytes. (The cache has room for all that can be changed ahead of a flush.)
 func (f *FS) store(n *node, lbn int, b []byte) {
 	f.cache.Put(cache.Key{Ino: n.Ino, Lbn: lbn}, b, true)
-	f.mark(n, lbn)
+	n.mark(lbn)
+	f.touch(n)
 }
 
 // forget lets the data of a node go, from one block on.
@@ -36,12 +37,6 @@ func (f *FS) forget(n *node, from int) {
 	for lbn := from; lbn < inode.Blocks(n.Size); lbn++ {
 		f.cache.Drop(cache.Key{Ino: n.Ino, Lbn: lbn})
 	}
-}
-
-// mark lets a block be written anew.
-func (f *FS) mark(n *node, lbn int) {
-	n.mark(lbn)
-	f.touch(n)
 }
 
 // touch lets an inode be written anew.

@@ -9,6 +9,7 @@ import (
 
 	"marl/api"
 	"marl/disk"
+	"marl/entry"
 	. "marl/fs"
 	"marl/geom"
 	"marl/point"
@@ -204,6 +205,38 @@ func TestRewrite(t *testing.T) {
 		sound(t, f)
 	}
 	same(t, opened(t, f.Disk()), m)
+}
+
+// P18.1: what was rewritten is written once; a cut elsewhere doesn't undo it.
+func TestRewriteOnce(t *testing.T) {
+	f := made(t, 600, 16, 20)
+	f.Make(api.KFile)
+	for at := 0; at < 64*300; at += 4096 {
+		if e := f.Write(3, at, bytes.Repeat([]byte{1}, 4096)); e != api.OK {
+			t.Fatal(e)
+		}
+		f.Checkpoint()
+	}
+	f.Rewrite(1, 600)
+	f.Checkpoint()
+	steps := f.Disk().Steps()
+	f.Checkpoint()
+	if f.Disk().Steps() != steps {
+		t.Errorf("P18.1: it is written again")
+	}
+	for _, lbn := range []int{-6, -22, -38, 30, 5} {
+		was := f.Where(3, lbn)
+		if e := f.Rewrite(3, lbn); e != api.OK {
+			t.Errorf("P18.1: Rewrite: %d", e)
+		}
+		n, _ := f.Stat(3)
+		f.Truncate(3, n.Size-64*7)
+		f.Flush()
+		if now := f.Where(3, lbn); now == was || now == 0 {
+			t.Errorf("P18.1: %d stands at %d, as it did", lbn, now)
+		}
+		sound(t, f)
+	}
 }
 
 // P18.1
@@ -509,7 +542,6 @@ func TestWrongBatches(t *testing.T) {
 		ok   bool
 	}{
 		{api.Inode{Ino: 3, Kind: 1, Links: 4}, 3, true},
-		{api.Inode{Ino: 4, Kind: 1, Links: 4}, 3, false},
 		{api.Inode{Ino: 21, Kind: 1}, 21, false},
 		{api.Inode{Ino: 20, Kind: 1, Version: 6}, 20, true},
 		{api.Inode{Ino: 1, Kind: 2}, 1, true}, // of Ifile nothing is taken
@@ -526,6 +558,9 @@ func TestWrongBatches(t *testing.T) {
 		{api.Inode{Ino: 3, Kind: 1, Size: 64 * 22, Ptr: [9]uint32{6: 200}}, 3, false},
 		{api.Inode{Ino: 3, Kind: 1, Size: 10, Ptr: [9]uint32{uint32(base.Where(3, 0))}}, 3, true},
 		{api.Inode{Ino: 3, Kind: 1, Size: 0, Ptr: [9]uint32{uint32(base.Where(3, 0))}}, 3, false},
+		{api.Inode{Ino: 3, Kind: 1, Links: 4}, 4, false},
+		{api.Inode{Ino: 4, Kind: 1, Links: 4}, 3, false},
+		{api.Inode{Ino: 3, Kind: 1, Links: 4}, 1, true},
 	} {
 		d := base.Disk().Crash(nil, -1, 0)
 		b, e := encode(c.n)
@@ -543,6 +578,112 @@ func TestWrongBatches(t *testing.T) {
 		}
 		if c.ok {
 			sound(t, f)
+		}
+	}
+}
+
+// P18.1: of a batch that tells Ifile and others, the others are taken; what is no inode's block isn't.
+func TestMixedBatches(t *testing.T) {
+	base := made(t, 300, 16, 20)
+	base.Make(api.KFile)
+	base.Checkpoint()
+	p, _ := point.Load(base.Disk())
+	for i, c := range []struct {
+		second []byte
+		ok     bool
+	}{{own(t, api.Inode{Ino: 3, Kind: 1, Links: 7}), true}, {make([]byte, 64), false}, {own(t, api.Inode{Ino: 4, Kind: 1}), false}} {
+		d := base.Disk().Crash(nil, -1, 0)
+		part := api.Part{Epoch: p.Epoch, Count: p.Count, Parts: 1, Next: 3 + 16*14, Inos: []int{1, 3}}
+		if e := seg.Write(d, p.Next, part, [][]byte{make([]byte, 64), c.second}); e != api.OK {
+			t.Fatal(e)
+		}
+		f, e := Mount(d)
+		if (e == api.OK) != c.ok || !c.ok && e != api.ErrForm {
+			t.Errorf("P18.1: batch %d: %d", i, e)
+		}
+		if c.ok {
+			if n, _ := f.Stat(3); n.Links != 7 {
+				t.Errorf("P18.1: %v", n)
+			}
+		}
+	}
+}
+
+func own(t *testing.T, n api.Inode) []byte {
+	t.Helper()
+	b, e := encode(n)
+	if e != api.OK {
+		t.Fatal(e)
+	}
+	return b
+}
+
+// P18.1: a map that tells another Version, another inode, or one that isn't there.
+func TestWrongMaps(t *testing.T) {
+	base := made(t, 300, 16, 20)
+	base.Make(api.KFile)
+	base.Make(api.KFile)
+	base.Remove(4)
+	base.Checkpoint()
+	none := 0
+	for a := 3; a < 299; a++ {
+		b, _ := base.Disk().Read(a)
+		if n, e := decode(b); e == api.OK && n.Ino == 4 && n.Kind == api.KNone {
+			none = a
+		}
+	}
+	for i, c := range []struct {
+		change func(l *[8]entry.MapEntry)
+		ok     bool
+	}{
+		{func(l *[8]entry.MapEntry) {}, true},
+		{func(l *[8]entry.MapEntry) { l[2].Version = 1 }, false},
+		{func(l *[8]entry.MapEntry) { l[2].Addr = l[1].Addr }, false},
+		{func(l *[8]entry.MapEntry) { l[2].Addr++ }, false},
+		{func(l *[8]entry.MapEntry) { l[2].Addr = 2 }, false},
+		{func(l *[8]entry.MapEntry) { l[2].Addr = 0 }, true},
+		{func(l *[8]entry.MapEntry) { l[1].Addr = 0 }, false},
+		{func(l *[8]entry.MapEntry) { l[0].Addr = base.Where(1, 600) }, false},
+		{func(l *[8]entry.MapEntry) { l[3] = entry.MapEntry{Addr: none, Version: 1} }, false},
+		{func(l *[8]entry.MapEntry) { l[4].Version = 65535 }, true},
+	} {
+		d := base.Disk().Crash(nil, -1, 0)
+		b, _ := d.Read(base.Where(1, 0))
+		l, e := entry.ReadMap(b)
+		if e != api.OK || none == 0 {
+			t.Fatal(e)
+		}
+		c.change(&l)
+		b, _ = entry.MapBlock(l)
+		d.Write(base.Where(1, 0), b)
+		f, e := Mount(d)
+		if (e == api.OK) != c.ok || !c.ok && e != api.ErrForm {
+			t.Errorf("P18.1: map %d: %d", i, e)
+		}
+		if c.ok {
+			sound(t, f)
+		}
+	}
+}
+
+// P18.1: what was written behind the point isn't written over ahead of a new one, even if nothing of it stands any more.
+func TestBatchesBehindTheNext(t *testing.T) {
+	base := made(t, 300, 16, 20)
+	base.Make(api.KFile)
+	base.Checkpoint()
+	p, _ := point.Load(base.Disk())
+	// The last of three batches puts zeros where the second one's summary may stand: then that is none.
+	for place, ok := range map[int]bool{10: false, 6: false, 5: true, 4: true} {
+		d := base.Disk().Crash(nil, -1, 0)
+		first := 3 + 16*9
+		for i, at := range [][2]int{{p.Next, first + place}, {first + place, first}, {first, first + 4}} {
+			part := api.Part{Epoch: p.Epoch, Count: p.Count + i, Parts: 1, Next: at[1], Inos: []int{3}}
+			if e := seg.Write(d, at[0], part, [][]byte{own(t, api.Inode{Ino: 3, Kind: 1, Links: i})}); e != api.OK {
+				t.Fatal(e)
+			}
+		}
+		if f, e := Mount(d); (e == api.OK) != ok || (f != nil) != ok || !ok && e != api.ErrForm {
+			t.Errorf("P18.1: a batch at place %d: %d", place, e)
 		}
 	}
 }

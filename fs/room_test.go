@@ -1,6 +1,7 @@
 package fs_test
 
 import (
+	"bytes"
 	"math/rand"
 	"testing"
 
@@ -130,6 +131,90 @@ func TestFullFileSystem(t *testing.T) {
 		same(t, f, m)
 		lasts(t, f)
 	}
+}
+
+// P18.1: whatever is called till nothing has room, a flush, a checkpoint and an opening have it.
+func TestTillNothingHasRoom(t *testing.T) {
+	t.Parallel()
+	const files = 60
+	for _, size := range []int{8, 9, 16, 18, 33, 64} {
+		for what := range 6 {
+			for few := 3; few < 9; few++ {
+				f := made(t, 3+size*(20+1500/size), size, 80)
+				for k := range files {
+					f.Make(api.KFile)
+					f.Write(3+k, 64*(k%3)*11, bytes.Repeat([]byte{1}, 70))
+					f.Flush()
+				}
+				f.Checkpoint()
+				for at := 0; f.Clean() > few && at < 38400-64*4; at += 64 * 4 {
+					if f.Write(3+files/2, at, make([]byte, 64*4)) != api.OK || f.Flush() != api.OK {
+						break
+					}
+				}
+				refused := api.OK
+				for k := 0; k < 2*files && refused == api.OK; k++ {
+					refused = some(f, what, 3+k%files, k)
+				}
+				if refused != api.ErrFull && refused != api.OK && !(what == 5 && refused == api.ErrNone) {
+					t.Fatalf("P18.1: call %d: %d", what, refused)
+				}
+				lasts(t, f)
+			}
+		}
+	}
+}
+
+// some does one call of a kind.
+func some(f *FS, what, ino, k int) api.Errno {
+	n, _ := f.Stat(ino)
+	switch what {
+	case 0:
+		return f.SetLinks(ino, 50+k%50)
+	case 1:
+		return f.Truncate(ino, max(0, n.Size-3))
+	case 2:
+		return f.Write(ino, n.Size-1, []byte{2})
+	case 3:
+		_, e := f.Make(api.KDir)
+		if e == api.ErrFiles {
+			return f.Write(ino, 64*k, []byte{1})
+		}
+		return e
+	case 4:
+		if e := f.Rewrite(ino, (n.Size-1)/64); e != api.OK {
+			return e
+		}
+		return f.Rewrite(ino, 600)
+	}
+	if e := f.Rewrite(api.Ifile, k%8); e != api.OK {
+		return e
+	}
+	return f.Remove(ino)
+}
+
+// P18.1: where nothing has room, a Rewrite is refused, too.
+func TestRewriteWithoutRoom(t *testing.T) {
+	f := made(t, 300, 16, 20)
+	f.Make(api.KFile)
+	for at := 0; f.Write(3, at, make([]byte, 64*20)) == api.OK; at += 64 * 20 {
+		f.Checkpoint()
+	}
+	refused := 0
+	for lbn := range 600 {
+		if f.Where(3, lbn) == 0 {
+			continue
+		}
+		if e := f.Rewrite(3, lbn); e == api.ErrFull {
+			refused++
+		} else if e != api.OK {
+			t.Fatalf("P18.1: Rewrite: %d", e)
+		}
+	}
+	if refused == 0 {
+		t.Error("P18.1: nothing was refused")
+	}
+	lasts(t, f)
 }
 
 // P18.1: what is admitted has room; a call that is refused changes nothing; and what a flush, a checkpoint and an opening need, they have.
