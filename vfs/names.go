@@ -216,16 +216,23 @@ func (v *VFS) renameable(ino int, there slot, from, to place) api.Errno {
 	return v.file(there.Ino)
 }
 
-// move takes an inode's entry out of one directory into another one, over what is there. An entry that is there, or one of the same directory, is written over, so that no more blocks are needed.
+// newPlace answers where the new entry of an inode comes that is renamed: over what is there, over its old one, or where there is a free one, so that a directory grows only where it must.
+func (v *VFS) newPlace(up int, last string, d int, there slot) (int, bool) {
+	if !there.free() {
+		return there.at, true
+	}
+	if up == d {
+		s, ok := v.lookup(up, last)
+		return s.at, ok
+	}
+	return v.spare(d)
+}
+
+// move takes an inode's entry out of one directory into another one, or the same; what is there has a name less.
 func (v *VFS) move(ino, up int, last string, d int, newLast string, there slot) api.Errno {
-	at := there.at
-	if there.free() {
-		ok := true
-		if s, _ := v.lookup(up, last); up == d {
-			at = s.at
-		} else if at, ok = v.spare(d); !ok {
-			return api.ErrFull
-		}
+	at, ok := v.newPlace(up, last, d, there)
+	if !ok {
+		return api.ErrFull
 	}
 	// Two directories, and what was there.
 	if e := v.ensure(2, 3); e != api.OK {
