@@ -330,6 +330,53 @@ func TestCutAndGrow(t *testing.T) {
 	}
 }
 
+// P18.1: more than a cache holds; what was written, and what wasn't yet.
+func TestManyBlocks(t *testing.T) {
+	f, m := made(t, 4096, 64, 9), newModel(9)
+	r := rand.New(rand.NewSource(4))
+	for ino := 3; ino < 7; ino++ {
+		f.Make(api.KFile)
+		x := thing{kind: api.KFile, links: 1}
+		for at := 0; at < 38400-4096; at += 4096 {
+			b := make([]byte, 4096)
+			r.Read(b)
+			if e := f.Write(ino, at, b); e != api.OK {
+				t.Fatalf("P18.1: Write: %d", e)
+			}
+			x.data = append(x.data, b...)
+			if e := f.Flush(); e != api.OK {
+				t.Fatalf("P18.1: Flush: %d", e)
+			}
+		}
+		m.things[ino] = x
+	}
+	same(t, f, m)
+	f.Checkpoint()
+	for k := range 300 {
+		ino, at := 3+r.Intn(4), r.Intn(36000)
+		x := m.things[ino]
+		if at >= len(x.data) {
+			continue
+		}
+		if e := f.Write(ino, at, []byte{byte(k)}); e != api.OK && e != api.ErrFull {
+			t.Fatalf("P18.1: Write: %d", e)
+		} else if e == api.OK {
+			x.data[at] = byte(k)
+		}
+		// What is read lets what was read go, but not what was changed.
+		if k%20 == 0 {
+			same(t, f, m)
+		}
+		if k%90 == 89 {
+			f.Flush()
+		}
+	}
+	same(t, f, m)
+	f.Checkpoint()
+	same(t, f, m)
+	same(t, opened(t, f.Disk().Crash(nil, -1, 0)), m)
+}
+
 // P18.2, P18.3
 func TestPower(t *testing.T) {
 	t.Parallel()
@@ -559,6 +606,7 @@ func TestWrongBatches(t *testing.T) {
 		{api.Inode{Ino: 3, Kind: 1, Size: 10, Ptr: [9]uint32{uint32(base.Where(3, 0))}}, 3, true},
 		{api.Inode{Ino: 3, Kind: 1, Size: 0, Ptr: [9]uint32{uint32(base.Where(3, 0))}}, 3, false},
 		{api.Inode{Ino: 3, Kind: 1, Links: 4}, 4, false},
+		{api.Inode{Ino: 4, Kind: 0, Version: 1}, 3, false},
 		{api.Inode{Ino: 4, Kind: 1, Links: 4}, 3, false},
 		{api.Inode{Ino: 3, Kind: 1, Links: 4}, 1, true},
 	} {

@@ -133,6 +133,55 @@ func TestFullFileSystem(t *testing.T) {
 	}
 }
 
+// P18.1: what is admitted has room, however little there is.
+func TestAdmitTightly(t *testing.T) {
+	t.Parallel()
+	for _, size := range []int{8, 9, 12, 16, 20} {
+		for seed := range 8 {
+			r := rand.New(rand.NewSource(int64(seed)))
+			f := made(t, 3+size*(40+r.Intn(9)), size, 30)
+			for range 20 {
+				f.Make(api.KFile)
+			}
+			f.Checkpoint()
+			for k := 0; f.Admit(1, 1) == api.OK; k++ {
+				tightest(t, r, f, k)
+				if e := f.Flush(); e != api.OK {
+					t.Fatalf("P18.1: Flush: %d", e)
+				}
+			}
+			lasts(t, f)
+		}
+	}
+}
+
+// tightest writes as many blocks as are admitted: up to eight far from each other, or more in a row.
+func tightest(t *testing.T, r *rand.Rand, f *FS, k int) {
+	t.Helper()
+	row, far := 0, 1
+	for b := 1; b <= 64; b++ {
+		if f.Admit(b, 1) == api.OK {
+			row = b
+		}
+		if b <= 8 && f.Admit(b, b) == api.OK {
+			far = b
+		}
+	}
+	if row > 8 && k%3 == 0 {
+		f.Admit(row, 1)
+		if e := f.Write(3+k%20, 64*r.Intn(500), make([]byte, 64*row)); e != api.OK {
+			t.Fatalf("P18.1: %d blocks in a row were admitted, %d clean: %d", row, f.Clean(), e)
+		}
+		return
+	}
+	f.Admit(far, far)
+	for i := range far {
+		if e := f.Write(3+(k+i)%20, 64*(280+16*((k+i)%19)), []byte{1}); e != api.OK {
+			t.Fatalf("P18.1: %d blocks were admitted, %d clean: %d", far, f.Clean(), e)
+		}
+	}
+}
+
 // P18.1: whatever is called till nothing has room, a flush, a checkpoint and an opening have it.
 func TestTillNothingHasRoom(t *testing.T) {
 	t.Parallel()

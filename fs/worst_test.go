@@ -17,6 +17,9 @@ func TestWorst(t *testing.T) {
 	r := rand.New(rand.NewSource(5))
 	for size := 8; size <= 64; size++ {
 		f := &FS{super: geom.Super{Blocks: 4096, SegBlocks: size, Inodes: 9}}
+		if f.oneBatch(cacheRoom) {
+			t.Fatalf("P18.1: the cache has no room for a batch in segments of %d", size)
+		}
 		for n := 1; f.oneBatch(n); n += 1 + r.Intn(9) {
 			files, inos := hard(r, n)
 			left := minLeft + r.Intn(size-minLeft+1)
