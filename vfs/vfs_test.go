@@ -100,7 +100,7 @@ func TestEdgesOfBytes(t *testing.T) {
 	for _, c := range []call{
 		{kind: 0, a: "/f"}, {kind: 1, a: "/d"},
 		{kind: 6, a: "/f", at: -1}, {kind: 6, a: "/f", at: math.MaxInt, data: make([]byte, 4097)}, {kind: 6, a: "/f", at: math.MaxInt, data: []byte{1}}, {kind: 6, a: "/f", at: 38401}, {kind: 6, a: "/f", at: 38400}, {kind: 6, a: "/f", at: 38399, data: []byte{1}},
-		{kind: 7, a: "/f", at: -1}, {kind: 7, a: "/f", at: 38401}, {kind: 7, a: "/f", at: 38400}, {kind: 7, a: "/f", at: 5}, {kind: 7, a: "/f", at: 5}, {kind: 7, a: "/f", at: 70}, {kind: 7, a: "/d", at: -1},
+		{kind: 7, a: "/f", at: -1}, {kind: 7, a: "/f", at: 38401}, {kind: 7, a: "/f", at: 38400}, {kind: 7, a: "/f", at: 5}, {kind: 7, a: "/f", at: 5}, {kind: 7, a: "/f", at: 0}, {kind: 7, a: "/f", at: 70}, {kind: 7, a: "/d", at: -1},
 		{kind: 8, a: "/f", at: -1, n: 5}, {kind: 8, a: "/f", at: 1, n: -1}, {kind: 8, a: "/f", n: 4097}, {kind: 8, a: "/f", n: 4096}, {kind: 8, a: "/f", at: math.MaxInt, n: 4096}, {kind: 8, a: "/d", n: -1},
 		{kind: 6, a: "/f", at: 100, data: make([]byte, 4096)}, {kind: 8, a: "/f", at: 60, n: 99}, {kind: 9, a: "/d"}, {kind: 9, a: "/f"},
 	} {
@@ -320,6 +320,52 @@ func TestFull(t *testing.T) {
 	}
 }
 
+// tight answers a call that needs room, of two directories.
+func tight(r *rand.Rand) call {
+	p := func() string { return "/" + string("ab"[r.Intn(2)]) + "/" + string("cdefgh"[r.Intn(6)]) }
+	c := call{kind: []int{0, 1, 2, 3, 5, 5, 5, 6, 6, 7}[r.Intn(10)], a: p(), b: p(), at: r.Intn(4000), data: make([]byte, 1+r.Intn(900))}
+	if r.Intn(3) == 0 {
+		c.data = c.data[:1]
+	}
+	return c
+}
+
+// P21.1, P21.2: what is refused for want of room is refused whole, on the disk, too.
+func TestRefusedWhole(t *testing.T) {
+	t.Parallel()
+	refused := 0
+	for seed := range 40 {
+		r := rand.New(rand.NewSource(int64(seed)))
+		v := made(t, geom.Super{Blocks: 64 + r.Intn(90), SegBlocks: 8, Inodes: 14})
+		v.Mkdir("/a")
+		v.Mkdir("/b")
+		for range 200 {
+			c := tight(r)
+			was := picture(v)
+			got := c.do(v)
+			if !strings.HasSuffix(got, full) {
+				continue
+			}
+			refused++
+			if picture(v) != was {
+				t.Fatalf("P21.1: what is refused changes something: %d", c.kind)
+			}
+			if e := v.Sync(); e != api.OK {
+				t.Fatalf("P21.1: Sync: %d", e)
+			}
+			if w := opened(t, v.FS().Disk().Crash(nil, -1, 0)); picture(w) != was {
+				t.Fatalf("P21.2: what is refused is on the disk: %d", c.kind)
+			}
+			if r.Intn(20) == 0 {
+				cleaner.Run(v.FS(), 99, 3)
+			}
+		}
+	}
+	if refused < 100 {
+		t.Errorf("only %d calls were refused", refused)
+	}
+}
+
 // P21.1: with 600 clean blocks nothing is refused.
 func TestRoom(t *testing.T) {
 	for seed := range 6 {
@@ -518,6 +564,10 @@ func TestNoTrees(t *testing.T) {
 		{func(f *fs.FS) { f.Make(api.KFile); f.Write(2, 0, dirBlock(t, de(3, "a"))) }, true},
 		{func(f *fs.FS) { f.Make(api.KFile); f.Write(2, 128, dirBlock(t, de(3, "a"))) }, true},
 		{func(f *fs.FS) { f.Make(api.KFile); f.Write(2, 0, dirBlock(t, de(3, "a"))[:16]) }, false},
+		{func(f *fs.FS) { f.Make(api.KFile); f.Write(2, 0, dirBlock(t, de(3, "a"), de(3, "a"))) }, false},
+		{func(f *fs.FS) { f.Write(2, 0, make([]byte, 16)) }, false},
+		{func(f *fs.FS) { f.Write(2, 0, make([]byte, 128)) }, true},
+		{func(f *fs.FS) { f.Make(api.KFile); f.Write(2, 0, append(dirBlock(t, de(3, "a")), 0)) }, false},
 		{func(f *fs.FS) { f.Make(api.KFile); f.Write(2, 0, dirBlock(t, de(3, "a"), de(3, "b"))) }, false},
 		{func(f *fs.FS) {
 			f.Make(api.KFile)
