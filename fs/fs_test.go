@@ -427,13 +427,14 @@ func TestPower(t *testing.T) {
 			sound(t, f)
 			got := seen(t, f)
 			if !got.equal(sure) && !got.equal(later) {
-				t.Fatalf("P18.2: there is %v, want %v or %v", got.things, sure.things, later.things)
+				t.Fatalf("P18.2: there is %v, want %v or %v", got, sure, later)
 			}
-			if got.equal(later) {
+			if !got.equal(sure) {
 				sure = later
 			}
-			// The versions of those that aren't there are told by none; the next ones tell.
+			// Where both are alike, the versions of those that aren't there may be either's.
 			sure = sure.copied()
+			sure.loose = true
 			d = f.Disk()
 		}
 	}

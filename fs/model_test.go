@@ -2,6 +2,8 @@ package fs_test
 
 import (
 	"bytes"
+	"fmt"
+	"hash/crc32"
 	"maps"
 	"math/rand"
 	"slices"
@@ -30,6 +32,16 @@ type model struct {
 
 func newModel(n int) *model {
 	return &model{n: n, things: map[int]thing{2: {kind: api.KDir, links: 1}}, next: map[int]int{}}
+}
+
+// String tells a model in few words.
+func (m *model) String() string {
+	s := ""
+	for _, i := range live(m) {
+		x := m.things[i]
+		s += fmt.Sprintf("[%d: version %d, kind %d, %d links, %d bytes %x]", i, x.version, x.kind, x.links, len(x.data), crc32.ChecksumIEEE(x.data))
+	}
+	return s
 }
 
 func (m *model) copied() *model {
@@ -81,7 +93,7 @@ func seen(t *testing.T, f *FS) *model {
 func same(t *testing.T, f *FS, m *model) {
 	t.Helper()
 	if s := seen(t, f); !s.equal(m) {
-		t.Fatalf("P18.1: there is %v, want %v", s.things, m.things)
+		t.Fatalf("P18.1: there is %v, want %v", s, m)
 	}
 }
 
