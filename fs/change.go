@@ -44,7 +44,7 @@ func (f *FS) Remove(ino int) api.Errno {
 	if ino == api.Root {
 		return api.ErrPerm
 	}
-	if !f.room(f.cost(n, nil), 1) {
+	if !f.lastRoom(f.cost(n, nil), 1) {
 		return api.ErrFull
 	}
 	f.free(n.stood())
@@ -175,7 +175,7 @@ func (f *FS) Rewrite(ino, lbn int) api.Errno {
 	if lbn != ownBlock {
 		lbns = append(lbns, lbn)
 	}
-	if !f.room(f.cost(n, lbns), 1) {
+	if !f.lastRoom(f.cost(n, lbns), 1) {
 		return api.ErrFull
 	}
 	f.touch(n)

@@ -88,13 +88,26 @@ func (f *FS) mapItems(inodes int) int {
 	return min(all, len(blocks)+inodes) + len(metas) + 1
 }
 
-// room tells whether so many items and inodes more can be changed. The map's batch is counted twice, since a checkpoint that the power ended is made again by an opening.
-func (f *FS) room(items, inodes int) bool {
+// spared answers how many clean segments are left to calls that may make more room, so that a cleaner can begin where others are refused; fewer, or none, on a disk of few segments.
+func (f *FS) spared() int {
+	const moved, part = 2, 8
+	all := f.mapItems(mapBlocks(f.super))
+	return min(moved+f.takes(all), f.super.Segs()/part)
+}
+
+// room tells whether so many items and inodes more can be changed.
+func (f *FS) room(items, inodes int) bool { return f.roomBut(items, inodes, f.spared()) }
+
+// lastRoom is room, of a call that may take what is spared.
+func (f *FS) lastRoom(items, inodes int) bool { return f.roomBut(items, inodes, 0) }
+
+// roomBut is room, if so many clean segments aren't taken. The map's batch is counted twice, since a checkpoint that the power ended is made again by an opening.
+func (f *FS) roomBut(items, inodes, spared int) bool {
 	if f.epoch == maxNumber && f.count > lastCount {
 		return false
 	}
 	all := f.pending() + items
-	return f.oneBatch(all) && f.takes(all)+2*f.takes(f.mapItems(inodes)) <= f.Clean()
+	return f.oneBatch(all) && f.takes(all)+2*f.takes(f.mapItems(inodes))+spared <= f.Clean()
 }
 
 // cost answers how many items more there are, once these blocks of an inode are changed.

@@ -66,6 +66,35 @@ func hard(r *rand.Rand, n int) ([]api.Finfo, []int) {
 	return files, inos
 }
 
+// P18.1: where changes are refused, blocks can be written anew yet, and inodes removed.
+func TestWhatIsSpared(t *testing.T) {
+	for _, size := range []int{8, 16, 64} {
+		d, _ := disk.New(3 + size*30)
+		f, e := Mkfs(d, geom.Super{Blocks: 3 + size*30, SegBlocks: size, Inodes: 20})
+		if e != api.OK {
+			t.Fatal(e)
+		}
+		f.Make(api.KFile)
+		f.Make(api.KFile)
+		for at := 0; e == api.OK && at < maxSize; at += api.Block {
+			e = f.Write(3, at, []byte{1})
+			f.Flush()
+		}
+		if e != api.ErrFull {
+			t.Fatalf("P18.1: segments of %d: %d", size, e)
+		}
+		if e := f.Rewrite(3, 0); e != api.OK {
+			t.Errorf("P18.1: Rewrite: %d", e)
+		}
+		if e := f.Remove(4); e != api.OK {
+			t.Errorf("P18.1: Remove: %d", e)
+		}
+		if e := f.Checkpoint(); e != api.OK {
+			t.Errorf("P18.1: Checkpoint: %d", e)
+		}
+	}
+}
+
 // P18.1, P18.2: Counts go on in another Epoch; where there is none, nothing has room.
 func TestEndOfCounts(t *testing.T) {
 	d, _ := disk.New(300)
